@@ -1,0 +1,1 @@
+"""Programs laid out: see laidout.layouts for the calls."""

@@ -1,0 +1,91 @@
+"""A program's layout: its parts, and what stands between them."""
+
+from laidout.choosing import choose_lines
+from laidout.scanning import COMMENT
+
+APART = ("fn", "record")
+
+
+def apart_declarations(program):
+    """Give back for each token whether it begins a declaration before which an empty line always stands."""
+    apart = [False] * len(program.tokens)
+    before = None
+    for at in program.reader.declarations:
+        kind = program.tokens[at][0]
+        apart[at] = before is None or kind in APART or before in APART
+        before = kind
+    return apart
+
+
+class Drawer:
+    """What is drawn: the program, the lines chosen for it, and for each part which token comes next."""
+
+    def __init__(self, program, lines):
+        self.program = program
+        self.lines = lines
+        self.apart = apart_declarations(program)
+        self.upcoming = []
+        at = 0
+        for part in program.parts:
+            self.upcoming.append(at)
+            at += 0 if part[0] == COMMENT else 1
+
+    def is_comment(self, index):
+        """Tell whether this part is a comment."""
+        return self.program.parts[index][0] == COMMENT
+
+    def begins_line(self, index):
+        """Tell whether a line begins with this part."""
+        if index == 0:
+            return True
+        if self.is_comment(index):
+            return self.program.gap_breaks(index) > 0
+        return self.is_comment(index - 1) or self.lines[self.upcoming[index]] is not None
+
+    def is_first_end(self, index):
+        """Tell whether the line's end before this part is the first one behind the last token before it."""
+        if not self.is_comment(index - 1):
+            return True
+        return not self.begins_line(index - 1)
+
+    def has_empty_line(self, index):
+        """Tell whether an empty line stands before this part, with which a line begins."""
+        program = self.program
+        at = self.upcoming[index]
+        if at < len(program.tokens):
+            if program.reader.told[at] != "line":
+                return False
+            if self.apart[at] and self.is_first_end(index):
+                return True
+        if program.parts[index - 1][0] == "{" or program.parts[index][0] == "}":
+            return False
+        return program.gap_breaks(index) >= 2
+
+    def blanks(self, index):
+        """Give back how many blanks stand before this part, with which a line begins."""
+        at = self.upcoming[index]
+        if at == len(self.lines):
+            return 0
+        line = self.lines[at]
+        return line.comment_indent if self.is_comment(index) else line.indent
+
+    def gap(self, index):
+        """Give back the bytes before this part."""
+        if index == 0:
+            return []
+        if self.begins_line(index):
+            return [10] * (2 if self.has_empty_line(index) else 1) + [32] * self.blanks(index)
+        if self.is_comment(index):
+            return [32]
+        return [32] * (1 if self.program.reader.told[self.upcoming[index]] in ("one", "may-one") else 0)
+
+
+def draw(width, program):
+    """Give back the layout's bytes."""
+    drawer = Drawer(program, choose_lines(width, program))
+    layout = []
+    for index, part in enumerate(program.parts):
+        layout.extend(drawer.gap(index))
+        layout.extend(program.text[part[1]:part[2]])
+    layout.append(10)
+    return layout
