@@ -89,8 +89,8 @@ class Chooser:
         return self.told[at] == "may-none" and (broken > 0 or not self.begun[at])
 
     def beyond(self, column, size):
-        """Give back what so many bytes more cost on a line that has so many."""
-        return BEYOND * (max(0, column + size - self.width) - max(0, column - self.width))
+        """Give back what so many bytes more cost on a line that has so many, none of which is beyond the width."""
+        return BEYOND * max(0, column + size - self.width)
 
     def comments_cost(self, at, column, broken):
         """Give back what the comments cost in the gap before this token."""
@@ -117,7 +117,7 @@ class Chooser:
         else:
             size += flat_blanks(self.told[at])
         cost += self.beyond(column, size)
-        # All columns beyond the width are alike, as each further byte costs the same.
+        # What is beyond the width was counted: a further byte costs as much as one that's right at the width.
         return Move(cost, end + 1, min(self.width, column + size), broken)
 
     def ends(self, at):

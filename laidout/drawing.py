@@ -40,7 +40,7 @@ class Drawer:
             return True
         if self.is_comment(index):
             return self.program.gap_breaks(index) > 0
-        return self.is_comment(index - 1) or self.lines[self.upcoming[index]] is not None
+        return self.lines[self.upcoming[index]] is not None
 
     def is_first_end(self, index):
         """Tell whether the line's end before this part is the first one behind the last token before it."""

@@ -137,7 +137,7 @@ def read_number(text, at):
     if byte_at(text, whole) == 46 and digit_at(text, whole + 1):
         broken = run_end(text, whole + 1, "0")
     digits = exponent_digits(text, broken)
-    raised = run_end(text, digits, "0") if digits > broken else broken
+    raised = run_end(text, digits, "0")
     end = run_end(text, raised, "aA0_")
     fit = right_number(text[at:whole], broken > whole, text[digits:raised], digits == broken + 2, text[raised:end])
     return right(NUMBER, end) if fit and end - at <= 255 else wrong(1, at)

@@ -165,6 +165,17 @@ class Comments(unittest.TestCase):
         self.assertEqual(laid_value("f( # 45678901234\naaaaaaaaaaa + bbbbbb)", 20),
                          ["let k = f( # 45678901234", "    aaaaaaaaaaa", "    + bbbbbb", ")"])
 
+    def test_comments_behind_at_the_width(self):
+        for gap, after in (("", []), ("\nlet c = 1", ["let c = 1"]), ("\n# more", ["# more"])):
+            self.assertEqual(laid_value("f(a) # 56789" + gap, 20), ["let k = f(a) # 56789"] + after)
+            self.assertEqual(laid_value("f(a) # 567890" + gap, 20), ["let k = f(", "  a", ") # 567890"] + after)
+            self.assertEqual(laid_value("a + b # 6789" + gap, 20), ["let k = a + b # 6789"] + after)
+            self.assertEqual(laid_value("a + b # 67890" + gap, 20), ["let k = a", "  + b # 67890"] + after)
+        self.assertEqual(laid_value("[f(aaaaaaa), # 678\n1]", 20), ["let k = [", "  f(aaaaaaa), # 678", "  1", "]"])
+        self.assertEqual(laid_value("[f(aaaaaaa), # 6789\n1]", 20), ["let k = [", "  f(aaaaaaa), # 6789", "  1", "]"])
+        self.assertEqual(laid_value("[f(aaaaaaa), # 67890\n1]", 20),
+                         ["let k = [", "  f(", "    aaaaaaa", "  ), # 67890", "  1", "]"])
+
     def test_comments_cost(self):
         # A comment behind the last token is within the line's bytes.
         self.assertEqual(laid_value("f(a) # 567", 20), ["let k = f(a) # 567"])

@@ -260,6 +260,23 @@ class Tokens(Refused):
         self.refused("module a account b ABc", -2, 2, 21)
         self.refused("module a account b AB_", -2, 1, 21)
 
+    def test_first_and_last_of_their_kind(self):
+        # The bytes right before and right behind letters and digits are none.
+        for words in ("a", "z", "az", "zaz_09", "AZ", "ZA09", "AB[1]", "0", "9", "1/9", "90m"):
+            self.value(words)
+        for words in ("ab`", "AB@", "AB`", "10@", "10`", "1m@", "ab@", "ab`c", "AB@C"):
+            self.value(words, 1, 2)
+        self.value("zz{", 2, 2)
+        self.value("AZ{", 2, 2)
+        self.value("19:", 2, 2)
+        self.value("az:", 2, 2)
+        self.value("AZ:", 2, 2)
+        self.value("1.5e0m:", 2, 6)
+        self.value("1.:", 2, 2)
+        self.value("1./", 2, 2)
+        for words in ("1.5`", "1e5m`"):
+            self.value(words, 1, len(words) - 1)
+
     def test_signs(self):
         for words, layout in (("a->b", None), ("a- >b", None), ("a<=b", "a <= b"), ("a< =b", None), ("a!=b", "a != b"),
                               ("a//b", "a // b"), ("a/ /b", None), ("a==b", "a == b"), ("a= =b", None),
