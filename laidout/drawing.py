@@ -80,12 +80,16 @@ class Drawer:
         return [32] * (1 if self.program.reader.told[self.upcoming[index]] in ("one", "may-one") else 0)
 
 
-def draw(width, program):
-    """Give back the layout's bytes."""
+def draw_gaps(width, program):
+    """Give back the layout's gaps: the one before each part, and the one behind the last."""
     drawer = Drawer(program, choose_lines(width, program))
+    return [drawer.gap(index) for index in range(len(program.parts))] + [[10]]
+
+
+def draw(program, gaps):
+    """Give back the layout's bytes."""
     layout = []
     for index, part in enumerate(program.parts):
-        layout.extend(drawer.gap(index))
+        layout.extend(gaps[index])
         layout.extend(program.text[part[1]:part[2]])
-    layout.append(10)
-    return layout
+    return layout + gaps[-1]

@@ -1,6 +1,7 @@
 """The calls."""
 
-from laidout.drawing import draw
+from laidout.drawing import draw, draw_gaps
+from laidout.measuring import changed_gaps, layout_cost
 from laidout.programs import read_program
 
 NARROWEST = 20
@@ -8,26 +9,48 @@ WIDEST = 255
 
 
 def refused_or_laid(width, text):
-    """Give back a refusal's numbers, or none of them, and the layout."""
+    """Give back a refusal's numbers, or none of them; what was read of the text; and its layout's gaps."""
     if not NARROWEST <= width <= WIDEST:
-        return [-1], []
+        return [-1], None, []
     program = read_program(text)
-    if program.refused:
-        return program.refused, []
-    return [], draw(width, program)
+    gaps = [] if program.refused else draw_gaps(width, program)
+    return program.refused, program, gaps
 
 
 def format_text(width, text):
     """Answer the text's layout by this width: how many bytes, and these."""
-    refused, layout = refused_or_laid(width, text)
+    refused, program, gaps = refused_or_laid(width, text)
     if refused:
         return refused
+    layout = draw(program, gaps)
     return [0, len(layout)] + layout
 
 
 def is_laid(width, text):
     """Answer whether the text is its own layout by this width: 1 or 0."""
-    refused, layout = refused_or_laid(width, text)
+    refused, program, gaps = refused_or_laid(width, text)
     if refused:
         return refused
-    return [0, 1 if layout == text else 0]
+    return [0, 0 if changed_gaps(program, gaps) else 1]
+
+
+def cost(width, text):
+    """Answer what the text's layout by this width costs: how many bytes beyond the width, how many lines."""
+    refused, program, gaps = refused_or_laid(width, text)
+    if refused:
+        return refused
+    beyond, lines = layout_cost(width, draw(program, gaps))
+    return [0, beyond, lines]
+
+
+def edits(width, text):
+    """Answer what makes the text its layout by this width: how many edits, and of each the gap and its new bytes."""
+    refused, program, gaps = refused_or_laid(width, text)
+    if refused:
+        return refused
+    changed = changed_gaps(program, gaps)
+    answer = [0, len(changed)]
+    for begin, size, gap in changed:
+        answer.extend([begin, size, len(gap)])
+        answer.extend(gap)
+    return answer

@@ -28,9 +28,18 @@ class Program:
         self.comments = []
         self.reader = None
 
+    def gap_begin(self, index):
+        """Give back where the gap before this part (at the end: behind the last one) begins in the text."""
+        return self.parts[index - 1][2] if index > 0 else 0
+
+    def gap_bytes(self, index):
+        """Give back the bytes of the gap before this part (at the end: behind the last one) in the text."""
+        end = self.parts[index][1] if index < len(self.parts) else len(self.text)
+        return self.text[self.gap_begin(index):end]
+
     def gap_breaks(self, index):
-        """Give back how many line's ends stand in the text between this part and the one before it."""
-        return self.text[self.parts[index - 1][2]:self.parts[index][1]].count(10)
+        """Give back how many line's ends stand in the text in the gap before this part."""
+        return self.gap_bytes(index).count(10)
 
     def token_kinds(self):
         """Give back the tokens' kinds."""

@@ -3,10 +3,11 @@
 It has the document's forms as it tells them (for random programs, and for the first token that no program has), a
 reader that goes down the forms, and a layout that's found by trying all choices.
 """
+import random
 import re
 import sys
 
-from laidout.layouts import format_text
+from laidout.layouts import cost, edits, format_text, is_laid
 
 sys.setrecursionlimit(20000)
 
@@ -855,11 +856,117 @@ def deepness(kinds):
     return depth
 
 
+# Random programs as texts, and their gaps.
+
+def random_texts(seed, count, comments):
+    """So many random programs, as texts."""
+    rng = random.Random(seed)
+    found = 0
+    while found < count:
+        row = random_tokens(rng, rng.choice([10, 30, 60, 120, 250]))
+        if rng.random() < 0.4:
+            row = "module a fn f ( ) {".split() + random_tokens(rng, rng.choice([20, 80]), "statement") + ["}"]
+        text = join_tokens(rng, row, rng.choice(comments))
+        kinds = [part[0] for part in split_text(text) if part[0] != "#"]
+        if len(text) <= 4096 and deepness(kinds) <= 100:
+            found += 1
+            yield rng, text
+
+
+def other_gaps(rng, text):
+    """The same elements with other gaps, which are alike in all that matters."""
+    read = Reference(text)
+    parts = read.parts
+    lines = {index for index, told in enumerate(read.told) if told == "line"}
+    words = ""
+    at = 0
+    for index, part in enumerate(parts):
+        gap = text[parts[index - 1][3] if index else 0:part[2]]
+        breaks = gap.count("\n")
+        if part[0] == "#" or at in lines or parts[index - 1][0] == "#":
+            fewest = min(breaks, 2)
+            most = {0: 0, 1: 1, 2: 4}[fewest]
+            if part[0] != "#" and parts[index - 1][0] != "#" and fewest < 2:
+                fewest, most = 0, 1
+        else:
+            fewest, most = 0, 4
+        if index == 0:
+            fewest, most = 0, 4
+        pieces = ["\n"] * rng.randint(fewest, most) + [rng.choice([" ", ";", "  "]) for _ in range(rng.randint(0, 3))]
+        rng.shuffle(pieces)
+        if index and parts[index - 1][0] == "#":
+            # Only blanks and a line's end may follow a comment that's to stay as it is.
+            pieces.sort(key=lambda piece: piece != "\n")
+        filled = "".join(pieces)
+        words += (filled or " ") + part[1]
+        at += part[0] != "#"
+    return words + "\n" + rng.choice(["", "\n", ";"])
+
+
+def gaps_of(text):
+    """The gaps of a text without faults, one more than elements: (where it begins, what stands in it)."""
+    found = []
+    at = 0
+    for _, _, begin, end in split_text(text):
+        found.append((at, text[at:begin]))
+        at = end
+    return found + [(at, text[at:])]
+
+
+def edits_to(text, layout):
+    """What's to be answered of a text that has this layout: 0, how many edits, and each one's numbers."""
+    before, after = gaps_of(text), gaps_of(layout)
+    assert len(before) == len(after)
+    found = [0, 0]
+    for (begin, gap), (_, new) in zip(before, after):
+        if gap != new:
+            found[1] += 1
+            found += [begin, len(gap), len(new)] + as_bytes(new)
+    return found
+
+
+def split_edits(found):
+    """The edits of an answer: (where it begins, how many bytes it has there, its new bytes)."""
+    rows = []
+    at = 2
+    while at < len(found):
+        begin, size, count = found[at:at + 3]
+        rows.append((begin, size, found[at + 3:at + 3 + count]))
+        assert len(rows[-1][2]) == count, found
+        at += 3 + count
+    assert found[:2] == [0, len(rows)], found
+    return rows
+
+
+def make_edits(numbers, rows):
+    """A text's bytes with these edits made, each in its own place."""
+    made = []
+    at = 0
+    for begin, size, new in rows:
+        assert at <= begin and begin + size <= len(numbers), rows
+        made += numbers[at:begin] + new
+        at = begin + size
+    return made + numbers[at:]
+
+
 # What the tests ask of the package.
 
 def answer(text, width=80):
     """What format_text answers of this text."""
     return format_text(width, as_bytes(text))
+
+
+CALLS = (format_text, is_laid, cost, edits)
+
+
+def cost_answer(text, width=80):
+    """What cost answers of this text."""
+    return cost(width, as_bytes(text))
+
+
+def edits_answer(text, width=80):
+    """What edits answers of this text."""
+    return edits(width, as_bytes(text))
 
 
 def laid(text, width=80):

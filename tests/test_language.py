@@ -196,8 +196,12 @@ class Language(unittest.TestCase):
             if isinstance(node, ast.FunctionDef):
                 defs[node.name] = [arg.arg for arg in node.args.args]
                 self.assertEqual(node.args.defaults, [])
-        self.assertEqual(defs["format_text"], ["width", "text"])
-        self.assertEqual(defs["is_laid"], ["width", "text"])
+        for call in ("format_text", "is_laid", "cost", "edits"):
+            self.assertEqual(defs[call], ["width", "text"])
+        for name in python_files():
+            if name != "layouts.py":
+                tops = {node.name for node in ast.parse(source(name)).body if hasattr(node, "name")}
+                self.assertEqual(tops & {"format_text", "is_laid", "cost", "edits"}, set(), name)
 
 
 if __name__ == "__main__":

@@ -4,7 +4,8 @@ import sys
 import unittest
 
 from laidout.layouts import format_text, is_laid
-from tests.helper import answer, as_bytes, as_words, cost_of, laid, laid_value, split_text
+from tests.helper import (answer, as_bytes, as_words, cost_answer, cost_of, edits_answer, edits_to, laid, laid_value,
+                          split_text)
 
 START = "module a let k="
 FN = "module a fn f(){"
@@ -65,18 +66,21 @@ class Large(unittest.TestCase):
                 self.assertEqual(is_laid(width, as_bytes(text)), [0, 0], name)
                 if found[1] <= 4096:
                     self.assertEqual(format_text(width, found[2:]), found, name)
+                layout = as_words(found[2:])
+                self.assertEqual(cost_answer(text, width), [0, *cost_of(layout, width)], name)
+                self.assertEqual(edits_answer(text, width), edits_to(text, layout), name)
 
     def test_few_calls_within_one_another(self):
         # The package goes through what's nested by loops: it answers where Python allows few calls.
-        program = ("import sys\nfrom laidout.layouts import format_text\n"
+        program = ("import sys\nfrom laidout.layouts import cost, edits, format_text, is_laid\n"
                    "for text in sys.stdin.read().split('\\t'):\n"
                    "    numbers = list(text.encode())\n    sys.setrecursionlimit(60)\n"
-                   "    found = format_text(20, numbers)\n    sys.setrecursionlimit(1000)\n"
-                   "    print(found[0])\n")
+                   "    found = [call(20, numbers)[0] for call in (format_text, is_laid, cost, edits)]\n"
+                   "    sys.setrecursionlimit(1000)\n    print(*found)\n")
         texts = list(TEXTS.values()) + [START + "if " * 1300, "module a let k:" + "fn()->" * 670, "(" * 4096]
         found = subprocess.run([sys.executable, "-c", program], input="\t".join(texts), capture_output=True, text=True,
                                check=True)
-        self.assertEqual(found.stdout.split(), ["0"] * len(TEXTS) + ["-2", "-2", "-6"])
+        self.assertEqual(found.stdout.split(), ["0"] * 4 * len(TEXTS) + ["-2"] * 8 + ["-6"] * 4)
 
     def test_long_lines(self):
         self.assertEqual(laid("module a #" + "x" * 4000), "module a #" + "x" * 4000 + "\n")

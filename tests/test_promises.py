@@ -1,55 +1,10 @@
-"""F1, F2, F3 and F6, over many programs and widths; and what the calls do with what they're handed."""
+"""F1, F2, F3, F4 and F6, over many programs and widths; and what the calls do with what they're handed."""
 import random
 import unittest
 
-from laidout.layouts import format_text, is_laid
-from tests.helper import (Reference, answer, as_bytes, as_words, cost_of, deepness, join_tokens, laid, random_tokens,
-                          split_text)
-
-
-def random_texts(seed, count, comments):
-    """So many random programs, as texts."""
-    rng = random.Random(seed)
-    found = 0
-    while found < count:
-        row = random_tokens(rng, rng.choice([10, 30, 60, 120, 250]))
-        if rng.random() < 0.4:
-            row = "module a fn f ( ) {".split() + random_tokens(rng, rng.choice([20, 80]), "statement") + ["}"]
-        text = join_tokens(rng, row, rng.choice(comments))
-        kinds = [part[0] for part in split_text(text) if part[0] != "#"]
-        if len(text) <= 4096 and deepness(kinds) <= 100:
-            found += 1
-            yield rng, text
-
-
-def other_gaps(rng, text):
-    """The same elements with other gaps, which are alike in all that matters."""
-    read = Reference(text)
-    parts = read.parts
-    lines = {index for index, told in enumerate(read.told) if told == "line"}
-    words = ""
-    at = 0
-    for index, part in enumerate(parts):
-        gap = text[parts[index - 1][3] if index else 0:part[2]]
-        breaks = gap.count("\n")
-        if part[0] == "#" or at in lines or parts[index - 1][0] == "#":
-            fewest = min(breaks, 2)
-            most = {0: 0, 1: 1, 2: 4}[fewest]
-            if part[0] != "#" and parts[index - 1][0] != "#" and fewest < 2:
-                fewest, most = 0, 1
-        else:
-            fewest, most = 0, 4
-        if index == 0:
-            fewest, most = 0, 4
-        pieces = ["\n"] * rng.randint(fewest, most) + [rng.choice([" ", ";", "  "]) for _ in range(rng.randint(0, 3))]
-        rng.shuffle(pieces)
-        if index and parts[index - 1][0] == "#":
-            # Only blanks and a line's end may follow a comment that's to stay as it is.
-            pieces.sort(key=lambda piece: piece != "\n")
-        filled = "".join(pieces)
-        words += (filled or " ") + part[1]
-        at += part[0] != "#"
-    return words + "\n" + rng.choice(["", "\n", ";"])
+from laidout.layouts import cost, edits, format_text, is_laid
+from tests.helper import (CALLS, Reference, answer, as_bytes, as_words, cost_answer, cost_of, edits_answer, edits_to,
+                          gaps_of, laid, make_edits, other_gaps, random_texts, split_edits, split_text)
 
 
 class Promises(unittest.TestCase):
@@ -87,14 +42,42 @@ class Promises(unittest.TestCase):
             if found[1] <= 4096:
                 # Nothing of a layout by another width is left.
                 self.assertEqual(format_text(other, found[2:]), answer(text, other))
+                self.assertEqual(cost(other, found[2:]), cost_answer(text, other))
 
     def test_f3_none_costs_less(self):
         for rng, text in random_texts(104, 250, [0, 0, 0.05]):
             read = Reference(text)
             width = rng.choice([20, 25, 30, 40, 60, 80])
-            cost = cost_of(laid(text, width), width)
+            least = cost_of(laid(text, width), width)
+            self.assertEqual(cost_answer(text, width), [0, *least], text)
             for _ in range(8):
-                self.assertLessEqual(cost, cost_of(read.lay_out(read.random_choice(rng)), width), text)
+                self.assertLessEqual(least, cost_of(read.lay_out(read.random_choice(rng)), width), text)
+
+    def test_f4_edits_give_the_layout(self):
+        for rng, text in random_texts(106, 600, [0, 0, 0.05, 0.2, 0.4]):
+            width = rng.choice([20, 25, 30, 40, 60, 80, 255])
+            layout = laid(text, width)
+            found = edits_answer(text, width)
+            self.assertEqual(found, edits_to(text, layout), text)
+            rows = split_edits(found)
+            self.assertEqual(as_words(make_edits(as_bytes(text), rows)), layout)
+            self.assertEqual(found == [0, 0], is_laid(width, as_bytes(text)) == [0, 1])
+            # Any of them by itself changes one gap alone, and the others are as they were.
+            if rows:
+                row = rng.choice(rows)
+                before = gaps_of(text)
+                after = gaps_of(as_words(make_edits(as_bytes(text), [row])))
+                changed = [at for at, (_, gap) in enumerate(before) if gap != after[at][1]]
+                self.assertEqual([before[at][0] for at in changed], [row[0]])
+
+    def test_f4_none_of_a_layout(self):
+        for rng, text in random_texts(107, 300, [0, 0.05, 0.2]):
+            width = rng.choice([20, 40, 80, 255])
+            layout = laid(text, width)
+            if len(layout) <= 4096:
+                self.assertEqual(edits(width, as_bytes(layout)), [0, 0], text)
+                other = rng.choice([20, 30, 50, 100])
+                self.assertEqual(edits(other, as_bytes(layout)), edits_to(layout, laid(text, other)))
 
     def test_f6_gaps_that_do_not_matter(self):
         for rng, text in random_texts(105, 500, [0, 0.05, 0.2, 0.4]):
@@ -103,6 +86,7 @@ class Promises(unittest.TestCase):
                 continue
             width = rng.choice([20, 30, 50, 80, 120])
             self.assertEqual(answer(text, width), answer(other, width), (text, other))
+            self.assertEqual(cost_answer(text, width), cost_answer(other, width), (text, other))
 
     def test_f6_what_matters(self):
         self.assertNotEqual(laid("module a # b"), laid("module a\n# b"))
@@ -116,7 +100,7 @@ class Calls(unittest.TestCase):
     def test_what_is_handed_in_stays(self):
         for text in self.TEXTS:
             for width in (19, 20, 80, 255, 256):
-                for call in (format_text, is_laid):
+                for call in CALLS:
                     numbers = as_bytes(text)
                     found = call(width, numbers)
                     self.assertEqual(numbers, as_bytes(text))
@@ -128,7 +112,7 @@ class Calls(unittest.TestCase):
         first = {}
         for turn in range(3):
             rows = [(text, width, call) for text in self.TEXTS for width in (20, 80, 256)
-                    for call in (format_text, is_laid)]
+                    for call in CALLS]
             random.Random(turn).shuffle(rows)
             for text, width, call in rows:
                 found = call(width, as_bytes(text))
@@ -142,6 +126,14 @@ class Calls(unittest.TestCase):
         found[2] = 0
         self.assertEqual(numbers, as_bytes("module a\n"))
         self.assertEqual(format_text(80, numbers), [0, 9] + numbers)
+
+    def test_edits_are_given_back_anew(self):
+        numbers = as_bytes(" module  a")
+        found = edits(80, numbers)
+        self.assertEqual(found, [0, 3, 0, 1, 0, 7, 2, 1, 32, 10, 0, 1, 10])
+        found[-1] = 0
+        self.assertEqual(edits(80, numbers), [0, 3, 0, 1, 0, 7, 2, 1, 32, 10, 0, 1, 10])
+        self.assertEqual(numbers, as_bytes(" module  a"))
 
 
 if __name__ == "__main__":

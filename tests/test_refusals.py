@@ -2,30 +2,33 @@
 import random
 import unittest
 
-from laidout.layouts import format_text, is_laid
-from tests.helper import as_bytes, as_words, deepness, laid, split_text
+from laidout.layouts import cost, edits, format_text, is_laid
+from tests.helper import as_bytes, as_words, cost_of, deepness, laid, make_edits, split_edits, split_text
 
 START = "module a let k="
 
 
 class Refused(unittest.TestCase):
-    def both(self, text, width=80):
+    def asked(self, text, width=80):
+        """What format_text answers; the other calls refuse what it does, and else answer what fits."""
         numbers = as_bytes(text) if isinstance(text, str) else text
         found = format_text(width, numbers)
-        laid_answer = is_laid(width, numbers)
+        others = [call(width, numbers) for call in (is_laid, cost, edits)]
         if found[0] != 0:
-            self.assertEqual(laid_answer, found)
+            self.assertEqual(others, [found] * 3)
         else:
             self.assertEqual(found[1], len(found) - 2)
-            self.assertIn(laid_answer, ([0, 0], [0, 1]))
+            self.assertEqual(others[0], [0, int(found[2:] == numbers)])
+            self.assertEqual(others[1], [0, *cost_of(as_words(found[2:]), width)])
+            self.assertEqual(make_edits(numbers, split_edits(others[2])), found[2:])
         return found
 
     def refused(self, text, *numbers):
-        self.assertEqual(self.both(text), list(numbers), text)
+        self.assertEqual(self.asked(text), list(numbers), text)
 
     def value(self, words, *numbers):
         """What is told of a value; its place is counted from where the value begins."""
-        found = self.both(START + words)
+        found = self.asked(START + words)
         if not numbers:
             self.assertEqual(found[0], 0, words)
         else:
@@ -37,7 +40,7 @@ class Sizes(Refused):
         for extra in (" ", "\n", ";", "#"):
             text = "module a " + extra * (4096 - 9)
             self.assertEqual(len(text), 4096)
-            self.assertEqual(self.both(text)[0], 0)
+            self.assertEqual(self.asked(text)[0], 0)
             self.refused(text + extra, -1)
 
     def test_length_before_all_else(self):
@@ -49,13 +52,13 @@ class Sizes(Refused):
 
     def test_width(self):
         for width in (0, 1, 19, 256, 257, 1000, 4294967295):
-            self.assertEqual(self.both("module a", width), [-1])
-            self.assertEqual(self.both("module", width), [-1])
-            self.assertEqual(self.both("(" * 200, width), [-1])
-            self.assertEqual(self.both([0], width), [-1])
+            self.assertEqual(self.asked("module a", width), [-1])
+            self.assertEqual(self.asked("module", width), [-1])
+            self.assertEqual(self.asked("(" * 200, width), [-1])
+            self.assertEqual(self.asked([0], width), [-1])
         for width in (20, 21, 80, 254, 255):
-            self.assertEqual(self.both("module a", width)[0], 0)
-            self.assertEqual(self.both("module", width), [-2, 3, 6])
+            self.assertEqual(self.asked("module a", width)[0], 0)
+            self.assertEqual(self.asked("module", width), [-2, 3, 6])
 
     def test_widths_that_matter(self):
         for width in (20, 255):
@@ -72,10 +75,10 @@ class Sizes(Refused):
 
     def test_long_layouts(self):
         text = START + "[" + "a," * 2000 + "a]"
-        found = self.both(text)
+        found = self.asked(text)
         self.assertEqual(found[0], 0)
         self.assertGreater(found[1], 4096)
-        self.assertEqual(self.both(found[2:]), [-1])
+        self.assertEqual(self.asked(found[2:]), [-1])
 
 
 class Depths(Refused):
@@ -86,27 +89,27 @@ class Depths(Refused):
             kinds = [part[0] for part in split_text(text) if part[0] != "#"]
             depth = deepness(kinds)
             self.assertEqual(depth > 100, numbers == 1, (depth, text[:60]))
-            self.assertEqual(self.both(text) == [-6], numbers == 1, text[:60])
+            self.assertEqual(self.asked(text) == [-6], numbers == 1, text[:60])
         return make(edge)
 
     def test_operators(self):
         for sign in ("-", "+", "*", "/", "//", "%", "^", " or ", " and "):
             text = self.deep(lambda count: START + "a" + (sign + "a") * count, 100)
-            self.assertEqual(self.both(text)[0], 0)
+            self.assertEqual(self.asked(text)[0], 0)
 
     def test_comparisons(self):
         # A program has no rows of these, but -6 comes before the forms.
         for sign in ("==", "!=", "<", "<=", ">", ">=", "->", " of ", " then ", " spawn ", " resume ", " giving ",
                      " picture ", " not "):
             text = self.deep(lambda count: START + "a" + (sign + "a") * count, 100)
-            self.assertEqual(self.both(text)[0], -2)
+            self.assertEqual(self.asked(text)[0], -2)
         for sign in (" as ", "."):
             text = self.deep(lambda count: START + "a" + (sign + "a") * count, 100)
-            self.assertEqual(self.both(text)[0], 0)
+            self.assertEqual(self.asked(text)[0], 0)
 
     def test_prefixes(self):
         for sign in ("-", "not "):
-            self.assertEqual(self.both(self.deep(lambda count: START + sign * count + "a", 100))[0], 0)
+            self.assertEqual(self.asked(self.deep(lambda count: START + sign * count + "a", 100))[0], 0)
 
     def test_words_within(self):
         within = [
@@ -120,7 +123,7 @@ class Depths(Refused):
             (lambda count: START + "a==b and " * count + "a", 50),
         ]
         for make, edge in within:
-            self.assertEqual(self.both(self.deep(make, edge))[0], 0)
+            self.assertEqual(self.asked(self.deep(make, edge))[0], 0)
 
     def test_brackets(self):
         # The last closing one counts as well: it puts one more where it's put.
@@ -133,76 +136,76 @@ class Depths(Refused):
             (lambda count: "module a let k:" + "fn(" * count + ")" * count + "=a", 100),
         ]
         for make, edge in within:
-            self.assertEqual(self.both(self.deep(make, edge))[0], 0)
+            self.assertEqual(self.asked(self.deep(make, edge))[0], 0)
 
     def test_closed_brackets_count(self):
-        self.assertEqual(self.both(self.deep(lambda count: START + "f" + "()" * count, 100))[0], 0)
-        self.assertEqual(self.both(self.deep(lambda count: START + "f" + "[1]" * count, 100))[0], 0)
-        self.assertEqual(self.both(self.deep(lambda count: "module a fn f(){" + "f()" * count + "}", 98))[0], 0)
+        self.assertEqual(self.asked(self.deep(lambda count: START + "f" + "()" * count, 100))[0], 0)
+        self.assertEqual(self.asked(self.deep(lambda count: START + "f" + "[1]" * count, 100))[0], 0)
+        self.assertEqual(self.asked(self.deep(lambda count: "module a fn f(){" + "f()" * count + "}", 98))[0], 0)
 
     def test_closing_ones_alone(self):
-        self.assertEqual(self.both(")" * 100), [-2, 2, 0])
-        self.assertEqual(self.both("]" * 100), [-2, 2, 0])
+        self.assertEqual(self.asked(")" * 100), [-2, 2, 0])
+        self.assertEqual(self.asked("]" * 100), [-2, 2, 0])
         # Each takes away the only number: the one that stands there anew is 1, or 0.
-        self.assertEqual(self.both(")" * 3000), [-2, 2, 0])
-        self.assertEqual(self.both("+" * 50 + ")" + "+" * 99), [-2, 2, 0])
-        self.assertEqual(self.both("+" * 50 + ")" + "+" * 100), [-6])
-        self.assertEqual(self.both("+" * 50 + "]" + "+" * 99), [-2, 2, 0])
-        self.assertEqual(self.both("+" * 50 + "]" + "+" * 100), [-6])
-        self.assertEqual(self.both("+" * 50 + "}" + "+" * 100), [-2, 2, 0])
-        self.assertEqual(self.both("+" * 50 + "}" + "+" * 101), [-6])
+        self.assertEqual(self.asked(")" * 3000), [-2, 2, 0])
+        self.assertEqual(self.asked("+" * 50 + ")" + "+" * 99), [-2, 2, 0])
+        self.assertEqual(self.asked("+" * 50 + ")" + "+" * 100), [-6])
+        self.assertEqual(self.asked("+" * 50 + "]" + "+" * 99), [-2, 2, 0])
+        self.assertEqual(self.asked("+" * 50 + "]" + "+" * 100), [-6])
+        self.assertEqual(self.asked("+" * 50 + "}" + "+" * 100), [-2, 2, 0])
+        self.assertEqual(self.asked("+" * 50 + "}" + "+" * 101), [-6])
         # Where others stand behind them, ) and ] make the next one more, and } makes it 0.
-        self.assertEqual(self.both("+" * 50 + "{" + "+" * 49 + "}" + "+" * 100), [-2, 2, 0])
-        self.assertEqual(self.both("+" * 50 + "{" + "+" * 49 + "}" + "+" * 101), [-6])
-        self.assertEqual(self.both("+" * 50 + "{" + "+" * 50), [-6])
-        self.assertEqual(self.both("+" * 50 + "(" + ")" + "+" * 49), [-2, 2, 0])
-        self.assertEqual(self.both("+" * 50 + "(" + ")" + "+" * 50), [-6])
+        self.assertEqual(self.asked("+" * 50 + "{" + "+" * 49 + "}" + "+" * 100), [-2, 2, 0])
+        self.assertEqual(self.asked("+" * 50 + "{" + "+" * 49 + "}" + "+" * 101), [-6])
+        self.assertEqual(self.asked("+" * 50 + "{" + "+" * 50), [-6])
+        self.assertEqual(self.asked("+" * 50 + "(" + ")" + "+" * 49), [-2, 2, 0])
+        self.assertEqual(self.asked("+" * 50 + "(" + ")" + "+" * 50), [-6])
 
     def test_what_makes_it_0(self):
         for word in (", = : let fn record account use return raise say yield post from match is while for in to with "
                      "try catch").split():
             half = "+ " * 60
-            self.assertEqual(self.both(half + word + " " + half), [-2, 2, 0], word)
-            self.assertEqual(self.both("+ " * 100 + word + " " + "+ " * 100), [-2, 2, 0], word)
-            self.assertEqual(self.both("+ " * 60 + word + " " + "+ " * 101), [-6], word)
+            self.assertEqual(self.asked(half + word + " " + half), [-2, 2, 0], word)
+            self.assertEqual(self.asked("+ " * 100 + word + " " + "+ " * 100), [-2, 2, 0], word)
+            self.assertEqual(self.asked("+ " * 60 + word + " " + "+ " * 101), [-6], word)
 
     def test_what_counts_for_nothing(self):
         for word in ("if else a AB 1 \"x\" .. module next leave break flags finally into and2 only make true "
                      "whole packed near trap # ;").split():
             gap = "\n" if word == "#" else " "
-            self.assertEqual(self.both(("+ " + word + gap) * 100), [-2, 2, 0], word)
-            self.assertEqual(self.both(("+ " + word + gap) * 101), [-6], word)
+            self.assertEqual(self.asked(("+ " + word + gap) * 100), [-2, 2, 0], word)
+            self.assertEqual(self.asked(("+ " + word + gap) * 101), [-6], word)
 
     def test_together(self):
         # 40 open brackets with one sign in each but the last are 40 and 40.
         text = START + "(a+" * 40 + "a"
-        self.assertEqual(self.both(text + "+a" * 20), [-2, 3, len(text) + 40])
-        self.assertEqual(self.both(text + "+a" * 21), [-6])
+        self.assertEqual(self.asked(text + "+a" * 20), [-2, 3, len(text) + 40])
+        self.assertEqual(self.asked(text + "+a" * 21), [-6])
 
     def test_deep_before_faults(self):
         # As far as the tokens have no fault, whatever the forms say.
-        self.assertEqual(self.both("+" * 101), [-6])
-        self.assertEqual(self.both("+" * 100), [-2, 2, 0])
-        self.assertEqual(self.both("x " + "+" * 101 + " !"), [-6])
-        self.assertEqual(self.both("! " + "+" * 101), [-2, 1, 0])
-        self.assertEqual(self.both("+" * 100 + " ! +"), [-2, 2, 0])
-        self.assertEqual(self.both(START + "-" * 101 + "\""), [-6])
-        self.assertEqual(self.both(START + "\"" + "-" * 101), [-2, 3, len(START) + 102])
+        self.assertEqual(self.asked("+" * 101), [-6])
+        self.assertEqual(self.asked("+" * 100), [-2, 2, 0])
+        self.assertEqual(self.asked("x " + "+" * 101 + " !"), [-6])
+        self.assertEqual(self.asked("! " + "+" * 101), [-2, 1, 0])
+        self.assertEqual(self.asked("+" * 100 + " ! +"), [-2, 2, 0])
+        self.assertEqual(self.asked(START + "-" * 101 + "\""), [-6])
+        self.assertEqual(self.asked(START + "\"" + "-" * 101), [-2, 3, len(START) + 102])
 
     def test_rows_that_do_not_count(self):
         text = "module a let k:" + "fn()->" * 600 + "whole=1"
-        self.assertEqual(self.both(text)[0], 0)
+        self.assertEqual(self.asked(text)[0], 0)
         text = START + "if " * 1300
-        self.assertEqual(self.both(text), [-2, 3, len(text)])
+        self.assertEqual(self.asked(text), [-2, 3, len(text)])
         text = START + "if " * 1300 + "then"
-        self.assertEqual(self.both(text), [-2, 2, len(text) - 4])
+        self.assertEqual(self.asked(text), [-2, 2, len(text) - 4])
 
     def test_random_rows(self):
         rng = random.Random(61)
         words = "( ( [ { ) ] } + - . , = let not then a of while".split()
         for _ in range(300):
             row = [rng.choice(words) for _ in range(rng.randint(50, 700))]
-            self.assertEqual(self.both(" ".join(row)) == [-6], deepness(row) > 100, row)
+            self.assertEqual(self.asked(" ".join(row)) == [-6], deepness(row) > 100, row)
 
 
 class Tokens(Refused):
@@ -217,10 +220,10 @@ class Tokens(Refused):
         for byte in as_bytes("!$&'?@\\_`|~"):
             self.refused(as_bytes("module a ") + [byte], -2, 1, 9)
             self.refused([byte], -2, 1, 0)
-            self.assertEqual(self.both(as_bytes("module a #") + [byte])[0], 0)
+            self.assertEqual(self.asked(as_bytes("module a #") + [byte])[0], 0)
         for byte in list(range(33, 127)):
-            self.assertEqual(self.both(as_bytes("module a #") + [byte])[0], 0)
-            self.assertEqual(self.both(as_bytes(START + '"x') + [byte] + as_bytes('"'))[0] == 0, byte not in (34, 92))
+            self.assertEqual(self.asked(as_bytes("module a #") + [byte])[0], 0)
+            self.assertEqual(self.asked(as_bytes(START + '"x') + [byte] + as_bytes('"'))[0] == 0, byte not in (34, 92))
 
     def test_gaps(self):
         self.assertEqual(laid(";;\n ;module;;a\n;"), "module a\n")
@@ -229,12 +232,12 @@ class Tokens(Refused):
         self.refused("# only", -2, 3, 6)
 
     def test_names(self):
-        self.assertEqual(self.both("module " + "a" * 31)[0], 0)
+        self.assertEqual(self.asked("module " + "a" * 31)[0], 0)
         self.refused("module " + "a" * 32, -2, 1, 7)
-        self.assertEqual(self.both("module a" + "9_" * 15)[0], 0)
+        self.assertEqual(self.asked("module a" + "9_" * 15)[0], 0)
         self.refused("module a" + "9_" * 15 + "z", -2, 1, 7)
         self.refused("module " + "a" * 40, -2, 1, 7)
-        self.assertEqual(self.both("module a_")[0], 0)
+        self.assertEqual(self.asked("module a_")[0], 0)
         self.refused("module _a", -2, 1, 7)
         self.assertEqual(laid("module lets use ifs use module_ use in2"), "module lets\nuse ifs\nuse module_\nuse in2\n")
 
@@ -247,9 +250,9 @@ class Tokens(Refused):
         self.assertEqual(len(words), 80)
         for word in words:
             self.refused("module " + word, -2, 2, 7)
-            self.assertEqual(self.both("module " + word + "0")[0], 0)
-            self.assertEqual(self.both("module " + word + "_")[0], 0)
-            self.assertEqual(self.both("module " + word + "q")[0], 0)
+            self.assertEqual(self.asked("module " + word + "0")[0], 0)
+            self.assertEqual(self.asked("module " + word + "_")[0], 0)
+            self.assertEqual(self.asked("module " + word + "q")[0], 0)
 
     def test_codes(self):
         for code in ("AB", "A1", "ABCDEFGH", "A2345678", "ABC"):
@@ -282,7 +285,7 @@ class Tokens(Refused):
                               ("a//b", "a // b"), ("a/ /b", None), ("a==b", "a == b"), ("a= =b", None),
                               ("[a..b]", "[a .. b]"), ("[a. .b]", None), ("a>=b", "a >= b"), ("a%b", "a % b"),
                               ("a^b", "a ^ b"), ("a<-b", "a < -b"), ("a--b", "a - -b"), ("a*b", "a * b")):
-            found = self.both(START + words)
+            found = self.asked(START + words)
             if layout is None:
                 self.assertEqual(found[:2], [-2, 2], words)
             else:
