@@ -89,7 +89,7 @@ def draw_gaps(width, program):
 def draw(program, gaps):
     """Give back the layout's bytes."""
     layout = []
-    for index, part in enumerate(program.parts):
+    for index, element in enumerate(program.element_bytes()):
         layout.extend(gaps[index])
-        layout.extend(program.text[part[1]:part[2]])
+        layout.extend(element)
     return layout + gaps[-1]

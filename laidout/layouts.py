@@ -2,6 +2,7 @@
 
 from laidout.drawing import draw, draw_gaps
 from laidout.measuring import changed_gaps, layout_cost
+from laidout.placing import layout_spans, moved_place, text_spans
 from laidout.programs import read_program
 
 NARROWEST = 20
@@ -54,3 +55,28 @@ def edits(width, text):
         answer.extend([begin, size, len(gap)])
         answer.extend(gap)
     return answer
+
+
+def place(width, at, back, text):
+    """Answer where a place in the text goes in its layout by this width; with back 1 one in the layout, in the text."""
+    if back > 1:
+        return [-1]
+    refused, program, gaps = refused_or_laid(width, text)
+    if refused:
+        return refused
+    written = text_spans(program)
+    drawn = layout_spans(program, gaps)
+    moved = moved_place(at, drawn, written) if back == 1 else moved_place(at, written, drawn)
+    return [-4] if moved is None else [0, moved]
+
+
+def same(text, other):
+    """Answer whether two texts have the same elements in the same order: 1 or 0."""
+    first = read_program(text)
+    second = read_program(other)
+    # A refusal goes before others by its number, and only then by the text that it's of.
+    for number in (-1, -6, -2):
+        for program in (first, second):
+            if program.refused[:1] == [number]:
+                return program.refused
+    return [0, 1 if first.element_bytes() == second.element_bytes() else 0]

@@ -41,6 +41,10 @@ class Program:
         """Give back how many line's ends stand in the text in the gap before this part."""
         return self.gap_bytes(index).count(10)
 
+    def element_bytes(self):
+        """Give back the bytes of each token and comment."""
+        return [self.text[part[1]:part[2]] for part in self.parts]
+
     def token_kinds(self):
         """Give back the tokens' kinds."""
         return [token[0] for token in self.tokens]

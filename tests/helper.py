@@ -7,7 +7,7 @@ import random
 import re
 import sys
 
-from laidout.layouts import cost, edits, format_text, is_laid
+from laidout.layouts import cost, edits, format_text, is_laid, place, same
 
 sys.setrecursionlimit(20000)
 
@@ -873,6 +873,14 @@ def random_texts(seed, count, comments):
             yield rng, text
 
 
+def small_texts(seed, count):
+    """So many random programs of few tokens, as texts."""
+    rng = random.Random(seed)
+    for _ in range(count):
+        row = "module a fn f ( ) {".split() + random_tokens(rng, rng.choice([4, 10, 20]), "statement") + ["}"]
+        yield rng, join_tokens(rng, row, rng.choice([0, 0.05, 0.2]))
+
+
 def other_gaps(rng, text):
     """The same elements with other gaps, which are alike in all that matters."""
     read = Reference(text)
@@ -949,6 +957,17 @@ def make_edits(numbers, rows):
     return made + numbers[at:]
 
 
+def places_between(text, other):
+    """For each place in a text, its length too, where it goes in another one that has the same elements."""
+    pairs = list(zip(split_text(text), split_text(other)))
+    assert [before[1] for before, _ in pairs] == [after[1] for _, after in pairs]
+    goes = [len(other)] * (len(text) + 1)
+    for before, after in reversed(pairs):
+        goes[:before[2]] = [after[2]] * before[2]
+        goes[before[2]:before[3]] = list(range(after[2], after[3]))
+    return goes
+
+
 # What the tests ask of the package.
 
 def answer(text, width=80):
@@ -956,7 +975,25 @@ def answer(text, width=80):
     return format_text(width, as_bytes(text))
 
 
-CALLS = (format_text, is_laid, cost, edits)
+def place_there(width, numbers):
+    """The text's first place."""
+    return place(width, 0, 0, numbers)
+
+
+def place_back(width, numbers):
+    """The layout's first place."""
+    return place(width, 0, 1, numbers)
+
+
+def same_twice(width, numbers):
+    """The same text twice, whatever the width."""
+    return same(numbers, numbers)
+
+
+# What refuses a text by a width, and what refuses a text alone; each is handed both.
+WIDTH_CALLS = (format_text, is_laid, cost, edits, place_there, place_back)
+TEXT_CALLS = (same_twice,)
+CALLS = WIDTH_CALLS + TEXT_CALLS
 
 
 def cost_answer(text, width=80):
@@ -967,6 +1004,16 @@ def cost_answer(text, width=80):
 def edits_answer(text, width=80):
     """What edits answers of this text."""
     return edits(width, as_bytes(text))
+
+
+def place_answer(text, at, back, width=80):
+    """What place answers of this text."""
+    return place(width, at, back, as_bytes(text))
+
+
+def same_answer(text, other):
+    """What same answers of these two texts."""
+    return same(as_bytes(text), as_bytes(other))
 
 
 def laid(text, width=80):

@@ -27,6 +27,9 @@ If While For Return Break Continue Pass Call Attribute Subscript Slice List Tupl
 BinOp BoolOp UnaryOp Compare IfExp keyword And Or Not USub Add Sub Mult FloorDiv Mod Eq NotEq Lt LtE Gt GtE In NotIn Is
 IsNot JoinedStr FormattedValue""".split())
 
+CALLS = {"format_text": "width text", "is_laid": "width text", "cost": "width text", "edits": "width text",
+         "place": "width at back text", "same": "text other"}
+
 WALKERS = set("zip enumerate reversed range".split())
 AROUND_WALKERS = set("list tuple dict sorted sum any all enumerate zip min max".split())
 
@@ -196,12 +199,12 @@ class Language(unittest.TestCase):
             if isinstance(node, ast.FunctionDef):
                 defs[node.name] = [arg.arg for arg in node.args.args]
                 self.assertEqual(node.args.defaults, [])
-        for call in ("format_text", "is_laid", "cost", "edits"):
-            self.assertEqual(defs[call], ["width", "text"])
+        for call, parameters in CALLS.items():
+            self.assertEqual(defs[call], parameters.split())
         for name in python_files():
             if name != "layouts.py":
                 tops = {node.name for node in ast.parse(source(name)).body if hasattr(node, "name")}
-                self.assertEqual(tops & {"format_text", "is_laid", "cost", "edits"}, set(), name)
+                self.assertEqual(tops & set(CALLS), set(), name)
 
 
 if __name__ == "__main__":

@@ -5,7 +5,7 @@ import unittest
 
 from laidout.layouts import format_text, is_laid
 from tests.helper import (answer, as_bytes, as_words, cost_answer, cost_of, edits_answer, edits_to, laid, laid_value,
-                          split_text)
+                          place_answer, places_between, same_answer, split_text)
 
 START = "module a let k="
 FN = "module a fn f(){"
@@ -70,17 +70,34 @@ class Large(unittest.TestCase):
                 self.assertEqual(cost_answer(text, width), [0, *cost_of(layout, width)], name)
                 self.assertEqual(edits_answer(text, width), edits_to(text, layout), name)
 
+    def test_places(self):
+        for name, text in TEXTS.items():
+            layout = as_words(answer(text, 40)[2:])
+            for back, before, after in ((0, text, layout), (1, layout, text)):
+                goes = places_between(before, after)
+                for at in (len(before) // 2, len(before) - 2, len(before)):
+                    self.assertEqual(place_answer(text, at, back, 40), [0, goes[at]], name)
+                self.assertEqual(place_answer(text, len(before) + 1, back, 40), [-4], name)
+
+    def test_same(self):
+        for name, text in TEXTS.items():
+            layout = as_words(answer(text, 20)[2:])
+            for one, other in ((text, text), (text, layout), (layout, text)):
+                self.assertEqual(same_answer(one, other), [0, 1] if max(len(one), len(other)) <= 4096 else [-1], name)
+            self.assertEqual(same_answer(text, "module a"), [0, int(name == "gaps")], name)
+
     def test_few_calls_within_one_another(self):
         # The package goes through what's nested by loops: it answers where Python allows few calls.
-        program = ("import sys\nfrom laidout.layouts import cost, edits, format_text, is_laid\n"
+        program = ("import sys\nfrom laidout.layouts import cost, edits, format_text, is_laid, place, same\n"
                    "for text in sys.stdin.read().split('\\t'):\n"
                    "    numbers = list(text.encode())\n    sys.setrecursionlimit(60)\n"
                    "    found = [call(20, numbers)[0] for call in (format_text, is_laid, cost, edits)]\n"
+                   "    found += [place(20, 9, 0, numbers)[0], place(20, 9, 1, numbers)[0], same(numbers, numbers)[0]]\n"
                    "    sys.setrecursionlimit(1000)\n    print(*found)\n")
         texts = list(TEXTS.values()) + [START + "if " * 1300, "module a let k:" + "fn()->" * 670, "(" * 4096]
         found = subprocess.run([sys.executable, "-c", program], input="\t".join(texts), capture_output=True, text=True,
                                check=True)
-        self.assertEqual(found.stdout.split(), ["0"] * 4 * len(TEXTS) + ["-2"] * 8 + ["-6"] * 4)
+        self.assertEqual(found.stdout.split(), ["0"] * 7 * len(TEXTS) + ["-2"] * 14 + ["-6"] * 7)
 
     def test_long_lines(self):
         self.assertEqual(laid("module a #" + "x" * 4000), "module a #" + "x" * 4000 + "\n")

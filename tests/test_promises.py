@@ -1,10 +1,11 @@
-"""F1, F2, F3, F4 and F6, over many programs and widths; and what the calls do with what they're handed."""
+"""F1 to F6, over many programs and widths; and what the calls do with what they're handed."""
 import random
 import unittest
 
-from laidout.layouts import cost, edits, format_text, is_laid
+from laidout.layouts import cost, edits, format_text, is_laid, place, same
 from tests.helper import (CALLS, Reference, answer, as_bytes, as_words, cost_answer, cost_of, edits_answer, edits_to,
-                          gaps_of, laid, make_edits, other_gaps, random_texts, split_edits, split_text)
+                          gaps_of, laid, make_edits, other_gaps, place_answer, random_texts, same_answer, small_texts,
+                          split_edits, split_text)
 
 
 class Promises(unittest.TestCase):
@@ -15,6 +16,7 @@ class Promises(unittest.TestCase):
                 self.assertEqual(found[:2], [0, len(found) - 2])
                 layout = as_words(found[2:])
                 self.assertEqual([part[:2] for part in split_text(layout)], [part[:2] for part in split_text(text)])
+                self.assertEqual(same_answer(text, layout), [0, 1] if len(layout) <= 4096 else [-1])
                 before, after = Reference(text), Reference(layout)
                 self.assertEqual((before.kinds, before.told, before.depths), (after.kinds, after.told, after.depths))
                 self.assertEqual([(g.first, g.end) for g in before.groups], [(g.first, g.end) for g in after.groups])
@@ -79,6 +81,26 @@ class Promises(unittest.TestCase):
                 other = rng.choice([20, 30, 50, 100])
                 self.assertEqual(edits(other, as_bytes(layout)), edits_to(layout, laid(text, other)))
 
+    def there_and_back(self, text, width, few):
+        """Places within elements, as many of each side as are asked for: there and back each is the same again."""
+        layout = laid(text, width)
+        for back, before, after in ((0, text, layout), (1, layout, text)):
+            within = [at for _, _, begin, end in split_text(before) for at in range(begin, end)]
+            others = {at for _, _, begin, end in split_text(after) for at in range(begin, end)}
+            for at in within[::max(1, len(within) // few)]:
+                found = place_answer(text, at, back, width)
+                self.assertIn(found[1], others)
+                self.assertEqual(after[found[1]], before[at])
+                self.assertEqual(place_answer(text, found[1], 1 - back, width), [0, at], (at, back, width, text))
+
+    def test_f5_places_go_and_come_back(self):
+        for rng, text in random_texts(108, 400, [0, 0.05, 0.2, 0.4]):
+            self.there_and_back(text, rng.choice([20, 25, 30, 40, 60, 80, 255]), 4)
+
+    def test_f5_each_place(self):
+        for rng, text in small_texts(109, 60):
+            self.there_and_back(text, rng.choice([20, 30, 80]), len(text))
+
     def test_f6_gaps_that_do_not_matter(self):
         for rng, text in random_texts(105, 500, [0, 0.05, 0.2, 0.4]):
             other = other_gaps(rng, text)
@@ -119,6 +141,28 @@ class Calls(unittest.TestCase):
                 self.assertEqual(first.setdefault((text, width, call), list(found)), found)
                 # What was given back may be changed without harm.
                 found.clear()
+
+    def test_both_texts_stay(self):
+        for text in self.TEXTS:
+            for other in self.TEXTS:
+                first, second = as_bytes(text), as_bytes(other)
+                found = same(first, second)
+                self.assertEqual((first, second), (as_bytes(text), as_bytes(other)))
+                self.assertEqual(same_answer(text, other), found)
+                self.assertEqual(same_answer(other, text)[:1], found[:1])
+                self.assertTrue(all(type(number) is int for number in found))
+
+    def test_places_are_plain_numbers(self):
+        for text in self.TEXTS:
+            for at in (0, 3, 8, 20, 100, 4294967295):
+                for back in (0, 1, 2):
+                    numbers = as_bytes(text)
+                    found = place(80, at, back, numbers)
+                    self.assertEqual(numbers, as_bytes(text))
+                    self.assertTrue(all(type(number) is int for number in found))
+                    self.assertEqual(place(80, at, back, numbers), found)
+                    found.clear()
+                    self.assertNotEqual(place(80, at, back, numbers), [])
 
     def test_a_layout_is_given_back_anew(self):
         numbers = as_bytes("module a\n")

@@ -3,7 +3,8 @@ import random
 import unittest
 
 from laidout.layouts import cost, edits, format_text, is_laid
-from tests.helper import as_bytes, as_words, cost_of, deepness, laid, make_edits, split_edits, split_text
+from tests.helper import (CALLS, WIDTH_CALLS, as_bytes, as_words, cost_of, deepness, laid, make_edits, place_there,
+                          same_twice, split_edits, split_text)
 
 START = "module a let k="
 
@@ -13,14 +14,17 @@ class Refused(unittest.TestCase):
         """What format_text answers; the other calls refuse what it does, and else answer what fits."""
         numbers = as_bytes(text) if isinstance(text, str) else text
         found = format_text(width, numbers)
-        others = [call(width, numbers) for call in (is_laid, cost, edits)]
         if found[0] != 0:
-            self.assertEqual(others, [found] * 3)
+            # Not all calls have a width to refuse.
+            for call in CALLS if 20 <= width <= 255 else WIDTH_CALLS:
+                self.assertEqual(call(width, numbers), found, call)
         else:
             self.assertEqual(found[1], len(found) - 2)
-            self.assertEqual(others[0], [0, int(found[2:] == numbers)])
-            self.assertEqual(others[1], [0, *cost_of(as_words(found[2:]), width)])
-            self.assertEqual(make_edits(numbers, split_edits(others[2])), found[2:])
+            self.assertEqual(is_laid(width, numbers), [0, int(found[2:] == numbers)])
+            self.assertEqual(cost(width, numbers), [0, *cost_of(as_words(found[2:]), width)])
+            self.assertEqual(make_edits(numbers, split_edits(edits(width, numbers))), found[2:])
+            self.assertEqual(place_there(width, numbers), [0, 0])
+            self.assertEqual(same_twice(width, numbers), [0, 1])
         return found
 
     def refused(self, text, *numbers):
