@@ -5,10 +5,10 @@ began before it are broken; so nothing matters there but how many bytes the line
 with the token some outer ones are broken; the next one, if there's one, is flat, and it's passed at once.
 """
 
+from laidout.scanning import CLOSING
+
 # A line costs 1, so a byte beyond the width must cost more than any layout has lines.
 BEYOND = 100000
-
-CLOSING = (")", "]", "}")
 
 
 def groups_by_begin(groups, count):

@@ -1,7 +1,6 @@
 """How deep the tokens of a text go."""
 
-BEGINNING = ("(", "[", "{")
-ENDING = (")", "]", "}")
+from laidout.scanning import CLOSING, OPENING
 
 DEEPER = (
     "-", "+", "*", "/", "//", "PERCENT", "^", "==", "!=", "<", "<=", ">", ">=", "->", ".",
@@ -15,16 +14,16 @@ ANEW = (
 
 def count_token(numbers, kind):
     """Change the numbers, of which the last one is the document's first, as a token of this kind asks."""
-    if kind in BEGINNING:
+    if kind in OPENING:
         numbers.append(0)
         return
-    if kind in ENDING:
+    if kind in CLOSING:
         numbers.pop()
         if not numbers:
             numbers.append(0)
     if kind == "}" or kind in ANEW:
         numbers[-1] = 0
-    elif kind in ENDING or kind in DEEPER:
+    elif kind in CLOSING or kind in DEEPER:
         numbers[-1] += 1
 
 

@@ -1,7 +1,6 @@
 """A program's layout: its parts, and what stands between them."""
 
 from laidout.choosing import choose_lines
-from laidout.scanning import COMMENT
 
 APART = ("fn", "record")
 
@@ -26,27 +25,15 @@ class Drawer:
         self.apart = apart_declarations(program)
         self.upcoming = []
         at = 0
-        for part in program.parts:
+        for index in range(len(program.parts)):
             self.upcoming.append(at)
-            at += 0 if part[0] == COMMENT else 1
-
-    def is_comment(self, index):
-        """Tell whether this part is a comment."""
-        return self.program.parts[index][0] == COMMENT
+            at += 0 if program.is_comment(index) else 1
 
     def begins_line(self, index):
         """Tell whether a line begins with this part."""
-        if index == 0:
-            return True
-        if self.is_comment(index):
-            return self.program.gap_breaks(index) > 0
+        if self.program.is_comment(index):
+            return self.program.is_by_itself(index)
         return self.lines[self.upcoming[index]] is not None
-
-    def is_first_end(self, index):
-        """Tell whether the line's end before this part is the first one behind the last token before it."""
-        if not self.is_comment(index - 1):
-            return True
-        return not self.begins_line(index - 1)
 
     def has_empty_line(self, index):
         """Tell whether an empty line stands before this part, with which a line begins."""
@@ -55,7 +42,8 @@ class Drawer:
         if at < len(program.tokens):
             if program.reader.told[at] != "line":
                 return False
-            if self.apart[at] and self.is_first_end(index):
+            # Behind a comment by itself it's no longer the first line's end behind the last token.
+            if self.apart[at] and not program.is_by_itself(index - 1):
                 return True
         if program.parts[index - 1][0] == "{" or program.parts[index][0] == "}":
             return False
@@ -67,7 +55,7 @@ class Drawer:
         if at == len(self.lines):
             return 0
         line = self.lines[at]
-        return line.comment_indent if self.is_comment(index) else line.indent
+        return line.comment_indent if self.program.is_comment(index) else line.indent
 
     def gap(self, index):
         """Give back the bytes before this part."""
@@ -75,7 +63,7 @@ class Drawer:
             return []
         if self.begins_line(index):
             return [10] * (2 if self.has_empty_line(index) else 1) + [32] * self.blanks(index)
-        if self.is_comment(index):
+        if self.program.is_comment(index):
             return [32]
         return [32] * (1 if self.program.reader.told[self.upcoming[index]] in ("one", "may-one") else 0)
 

@@ -4,6 +4,7 @@ from laidout.drawing import draw, draw_gaps
 from laidout.measuring import changed_gaps, layout_cost
 from laidout.placing import layout_spans, moved_place, text_spans
 from laidout.programs import read_program
+from laidout.surveying import survey_declarations, survey_folds
 
 NARROWEST = 20
 WIDEST = 255
@@ -16,6 +17,14 @@ def refused_or_laid(width, text):
     program = read_program(text)
     gaps = [] if program.refused else draw_gaps(width, program)
     return program.refused, program, gaps
+
+
+def counted(rows):
+    """Answer rows of numbers: how many rows, and each one's numbers."""
+    answer = [0, len(rows)]
+    for row in rows:
+        answer.extend(row)
+    return answer
 
 
 def format_text(width, text):
@@ -49,12 +58,7 @@ def edits(width, text):
     refused, program, gaps = refused_or_laid(width, text)
     if refused:
         return refused
-    changed = changed_gaps(program, gaps)
-    answer = [0, len(changed)]
-    for begin, size, gap in changed:
-        answer.extend([begin, size, len(gap)])
-        answer.extend(gap)
-    return answer
+    return counted([[begin, size, len(gap)] + gap for begin, size, gap in changed_gaps(program, gaps)])
 
 
 def place(width, at, back, text):
@@ -80,3 +84,15 @@ def same(text, other):
             if program.refused[:1] == [number]:
                 return program.refused
     return [0, 1 if first.element_bytes() == second.element_bytes() else 0]
+
+
+def outline(text):
+    """Answer the text's declarations: of each its kind, its name's place, the lines of its first and its last token."""
+    program = read_program(text)
+    return program.refused if program.refused else counted(survey_declarations(program))
+
+
+def folds(text):
+    """Answer what may be folded: first and last line of each fold, and how many folds of brackets it lies in."""
+    program = read_program(text)
+    return program.refused if program.refused else counted(survey_folds(program))

@@ -28,6 +28,14 @@ class Program:
         self.comments = []
         self.reader = None
 
+    def is_comment(self, index):
+        """Tell whether this part is a comment."""
+        return self.parts[index][0] == COMMENT
+
+    def is_by_itself(self, index):
+        """Tell whether this part is a comment that's by itself, not behind the part before it."""
+        return self.is_comment(index) and (index == 0 or self.gap_breaks(index) > 0)
+
     def gap_begin(self, index):
         """Give back where the gap before this part (at the end: behind the last one) begins in the text."""
         return self.parts[index - 1][2] if index > 0 else 0
@@ -54,9 +62,8 @@ def split_parts(program):
     """Tell the program's tokens from the comments in the gaps before them."""
     comments = []
     for index, part in enumerate(program.parts):
-        if part[0] == COMMENT:
-            behind = index > 0 and program.gap_breaks(index) == 0
-            comments.append(Comment(part[2] - part[1], behind))
+        if program.is_comment(index):
+            comments.append(Comment(part[2] - part[1], not program.is_by_itself(index)))
         else:
             program.tokens.append(part)
             program.comments.append(comments)

@@ -26,6 +26,9 @@ SIGNS = {
     (43,): "+", (45,): "-", (42,): "*", (47,): "/", (47, 47): "//", (37,): "PERCENT", (94,): "^",
 }
 
+OPENING = ("(", "[", "{")
+CLOSING = (")", "]", "}")
+
 LETTERS = "abcdefghijklmnopqrstuvwxyz"
 
 # m x d s h i; p has rules of its own.

@@ -7,7 +7,7 @@ import random
 import re
 import sys
 
-from laidout.layouts import cost, edits, format_text, is_laid, place, same
+from laidout.layouts import cost, edits, folds, format_text, is_laid, outline, place, same
 
 sys.setrecursionlimit(20000)
 
@@ -968,6 +968,51 @@ def places_between(text, other):
     return goes
 
 
+def outline_of(text):
+    """What's to be answered of this text's declarations."""
+    read = Reference(text)
+    found = [0, len(read.declarations)]
+    for at, after in zip(read.declarations, read.declarations[1:] + [len(read.tokens)]):
+        first, name, last = read.tokens[at], read.tokens[at + 1], read.tokens[after - 1]
+        found += [{"let": 128, "record": 129, "account": 130, "fn": 131}[first[0]], name[2]]
+        found += [text[:first[2]].count("\n"), text[:last[2]].count("\n")]
+    return found
+
+
+def folds_of(text):
+    """What's to be answered of this text's folds, line by line and pair by pair."""
+    pairs = []
+    parts = split_text(text)
+    for index, part in enumerate(parts):
+        after = index
+        level = 0
+        while part[0] in list("([{"):
+            level += (parts[after][0] in list("([{")) - (parts[after][0] in list(")]}"))
+            if level == 0:
+                if "\n" in text[part[2]:parts[after][2]]:
+                    pairs.append((part[2], parts[after][2]))
+                break
+            after += 1
+    rows = list(pairs)
+    # No token goes on over a line's end, so a line that begins with # has nothing but a comment by itself.
+    begin = 0
+    run = []
+    for line in (text + "\n.").split("\n"):
+        mark = len(line) - len(line.lstrip(" ;"))
+        if line[mark:mark + 1] == "#":
+            run.append(begin + mark)
+        else:
+            if len(run) > 1:
+                rows.append((run[0], run[-1]))
+            run = []
+        begin += len(line) + 1
+    found = [0, len(rows)]
+    for begin, end in sorted(rows):
+        found += [text[:begin].count("\n"), text[:end].count("\n")]
+        found.append(sum(1 for outer in pairs if outer[0] < begin and end < outer[1]))
+    return found
+
+
 # What the tests ask of the package.
 
 def answer(text, width=80):
@@ -990,9 +1035,19 @@ def same_twice(width, numbers):
     return same(numbers, numbers)
 
 
+def outline_alone(width, numbers):
+    """The text's declarations, whatever the width."""
+    return outline(numbers)
+
+
+def folds_alone(width, numbers):
+    """The text's folds, whatever the width."""
+    return folds(numbers)
+
+
 # What refuses a text by a width, and what refuses a text alone; each is handed both.
 WIDTH_CALLS = (format_text, is_laid, cost, edits, place_there, place_back)
-TEXT_CALLS = (same_twice,)
+TEXT_CALLS = (same_twice, outline_alone, folds_alone)
 CALLS = WIDTH_CALLS + TEXT_CALLS
 
 
@@ -1014,6 +1069,34 @@ def place_answer(text, at, back, width=80):
 def same_answer(text, other):
     """What same answers of these two texts."""
     return same(as_bytes(text), as_bytes(other))
+
+
+def outline_answer(text):
+    """What outline answers of this text."""
+    return outline(as_bytes(text))
+
+
+def folds_answer(text):
+    """What folds answers of this text."""
+    return folds(as_bytes(text))
+
+
+def steps_of(call, *handed):
+    """How many lines of code a call goes through."""
+    steps = 0
+
+    def step(frame, event, value):
+        nonlocal steps
+        steps += event == "line"
+        return step
+
+    before = sys.gettrace()
+    sys.settrace(step)
+    try:
+        call(*handed)
+    finally:
+        sys.settrace(before)
+    return steps
 
 
 def laid(text, width=80):

@@ -28,7 +28,7 @@ BinOp BoolOp UnaryOp Compare IfExp keyword And Or Not USub Add Sub Mult FloorDiv
 IsNot JoinedStr FormattedValue""".split())
 
 CALLS = {"format_text": "width text", "is_laid": "width text", "cost": "width text", "edits": "width text",
-         "place": "width at back text", "same": "text other"}
+         "place": "width at back text", "same": "text other", "outline": "text", "folds": "text"}
 
 WALKERS = set("zip enumerate reversed range".split())
 AROUND_WALKERS = set("list tuple dict sorted sum any all enumerate zip min max".split())

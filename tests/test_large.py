@@ -4,8 +4,9 @@ import sys
 import unittest
 
 from laidout.layouts import format_text, is_laid
-from tests.helper import (answer, as_bytes, as_words, cost_answer, cost_of, edits_answer, edits_to, laid, laid_value,
-                          place_answer, places_between, same_answer, split_text)
+from tests.helper import (answer, as_bytes, as_words, cost_answer, cost_of, edits_answer, edits_to, folds_answer,
+                          folds_of, laid, laid_value, outline_answer, outline_of, place_answer, places_between,
+                          same_answer, split_text)
 
 START = "module a let k="
 FN = "module a fn f(){"
@@ -86,18 +87,30 @@ class Large(unittest.TestCase):
                 self.assertEqual(same_answer(one, other), [0, 1] if max(len(one), len(other)) <= 4096 else [-1], name)
             self.assertEqual(same_answer(text, "module a"), [0, int(name == "gaps")], name)
 
+    def test_lines(self):
+        for name, text in TEXTS.items():
+            layout = as_words(answer(text, 20)[2:])
+            for words in (text, text if "#" in text else text.replace(" ", "\n"), layout):
+                if len(words) > 4096:
+                    self.assertEqual((outline_answer(words), folds_answer(words)), ([-1], [-1]), name)
+                else:
+                    self.assertEqual(outline_answer(words), outline_of(words), name)
+                    self.assertEqual(folds_answer(words), folds_of(words), name)
+
     def test_few_calls_within_one_another(self):
         # The package goes through what's nested by loops: it answers where Python allows few calls.
-        program = ("import sys\nfrom laidout.layouts import cost, edits, format_text, is_laid, place, same\n"
+        program = ("import sys\n"
+                   "from laidout.layouts import cost, edits, folds, format_text, is_laid, outline, place, same\n"
                    "for text in sys.stdin.read().split('\\t'):\n"
                    "    numbers = list(text.encode())\n    sys.setrecursionlimit(60)\n"
                    "    found = [call(20, numbers)[0] for call in (format_text, is_laid, cost, edits)]\n"
                    "    found += [place(20, 9, 0, numbers)[0], place(20, 9, 1, numbers)[0], same(numbers, numbers)[0]]\n"
+                   "    found += [outline(numbers)[0], folds(numbers)[0]]\n"
                    "    sys.setrecursionlimit(1000)\n    print(*found)\n")
         texts = list(TEXTS.values()) + [START + "if " * 1300, "module a let k:" + "fn()->" * 670, "(" * 4096]
         found = subprocess.run([sys.executable, "-c", program], input="\t".join(texts), capture_output=True, text=True,
                                check=True)
-        self.assertEqual(found.stdout.split(), ["0"] * 7 * len(TEXTS) + ["-2"] * 14 + ["-6"] * 7)
+        self.assertEqual(found.stdout.split(), ["0"] * 9 * len(TEXTS) + ["-2"] * 18 + ["-6"] * 9)
 
     def test_long_lines(self):
         self.assertEqual(laid("module a #" + "x" * 4000), "module a #" + "x" * 4000 + "\n")

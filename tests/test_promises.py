@@ -4,8 +4,8 @@ import unittest
 
 from laidout.layouts import cost, edits, format_text, is_laid, place, same
 from tests.helper import (CALLS, Reference, answer, as_bytes, as_words, cost_answer, cost_of, edits_answer, edits_to,
-                          gaps_of, laid, make_edits, other_gaps, place_answer, random_texts, same_answer, small_texts,
-                          split_edits, split_text)
+                          gaps_of, laid, make_edits, other_gaps, outline_answer, outline_of, place_answer, random_texts,
+                          same_answer, small_texts, split_edits, split_text)
 
 
 class Promises(unittest.TestCase):
@@ -18,6 +18,11 @@ class Promises(unittest.TestCase):
                 self.assertEqual([part[:2] for part in split_text(layout)], [part[:2] for part in split_text(text)])
                 self.assertEqual(same_answer(text, layout), [0, 1] if len(layout) <= 4096 else [-1])
                 before, after = Reference(text), Reference(layout)
+                outlines = [outline_of(words) for words in (text, layout)]
+                self.assertEqual(outline_answer(text), outlines[0])
+                self.assertEqual(outlines[0][2::4], outlines[1][2::4])
+                if len(layout) <= 4096:
+                    self.assertEqual(outline_answer(layout), outlines[1])
                 self.assertEqual((before.kinds, before.told, before.depths), (after.kinds, after.told, after.depths))
                 self.assertEqual([(g.first, g.end) for g in before.groups], [(g.first, g.end) for g in after.groups])
                 self.assertEqual(before.within, after.within)
